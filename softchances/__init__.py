@@ -1,0 +1,1 @@
+"""Softchances: chances that are bounded, not known."""

@@ -1,0 +1,72 @@
+"""What a value must be to pass for an integer, a fraction, a payoff and so on."""
+
+from math import gcd
+
+from softchances.limits import MOST_BOTTOM, MOST_NUMBER, MOST_OUTCOMES
+from softchances.limits import MOST_PRICE_BOTTOM, MOST_PRICE_TOP, MOST_TOP
+
+
+def is_integer(value):
+    """Whether it is an integer, True and False being none."""
+    return isinstance(value, int) and not isinstance(value, bool)
+
+
+def is_integer_from(value, low, high):
+    """Whether it is an integer from low to high."""
+    return is_integer(value) and low <= value <= high
+
+
+def is_ratio(value, most_top, most_bottom):
+    """Whether it is a fraction with a top and a bottom that are not too great."""
+    if not isinstance(value, tuple) or len(value) != 2:
+        return False
+    top, bottom = value
+    if not is_integer_from(top, -most_top, most_top) or not is_integer_from(bottom, 1, most_bottom):
+        return False
+    return gcd(top, bottom) == 1
+
+
+def is_fraction(value):
+    """Whether it is a fraction that may be passed."""
+    return is_ratio(value, MOST_TOP, MOST_BOTTOM)
+
+
+def is_share(value):
+    """Whether it is a share that may be passed."""
+    return is_fraction(value) and 0 <= value[0] <= value[1]
+
+
+def is_price(value):
+    """Whether it is the price of a quote."""
+    return is_ratio(value, MOST_PRICE_TOP, MOST_PRICE_BOTTOM)
+
+
+def is_outcome_number(value):
+    """Whether there can be so many outcomes."""
+    return is_integer_from(value, 2, MOST_OUTCOMES)
+
+
+def is_payoff(value, outcomes):
+    """Whether it is a payoff for so many outcomes."""
+    if not isinstance(value, tuple) or len(value) != outcomes:
+        return False
+    return all([is_integer_from(number, -MOST_NUMBER, MOST_NUMBER) for number in value])
+
+
+def is_quote(value, outcomes):
+    """Whether it is a quote for so many outcomes."""
+    if not isinstance(value, tuple) or len(value) != 2:
+        return False
+    return is_payoff(value[0], outcomes) and is_price(value[1])
+
+
+def is_lot(value, outcomes):
+    """Whether it is a lot of so many outcomes."""
+    if not isinstance(value, tuple):
+        return False
+    least = 0
+    for outcome in value:
+        if not is_integer_from(outcome, least, outcomes - 1):
+            return False
+        least = outcome + 1
+    return True

@@ -1,0 +1,75 @@
+"""The examples of the document, as they stand there."""
+
+import unittest
+
+from softchances.books import Book, chance_for, is_sound, keeps, losing_sale, row_of, worth
+from softchances.bounds import (book_of, bounds_of, gathers, is_kept, is_tight_bounds, level_worth, numbers_of,
+                                order_chance, order_chances, scattering, tightened)
+from softchances.corners import corners, is_corner, mean_corner
+from softchances.errors import InvalidQuotes, NotSound
+from softchances.tight import (are_alike, follows, is_needless, is_tight, is_within, least_quotes, needless,
+                               parting_chance, tight_prices)
+from softchances.worths import end_chance, greatest_chance, greatest_worth, least_chance, least_worth
+
+rain = Book(3, (((1, 0, 0), (1, 3)), ((0, 1, 0), (1, 4)), ((0, 0, 1), (1, 4))))
+bad, half = Book(2, (((1, 0), (2, 3)), ((0, 1), (2, 3)))), Book.read("2: 1,0>=1/3 0,1>=1/3")
+more = rain.with_quote((1, 1, 0), (1, 2))
+low, loose = bounds_of(rain), ((0, 1), (0, 1), (0, 1), (3, 5), (0, 1), (3, 5), (3, 5), (1, 1))
+
+
+class Examples(unittest.TestCase):
+    def test_books(self):
+        self.assertEqual(
+            [str(rain), repr(rain), half.outcomes, half.quotes, str(bad.without(0)), str(Book(2, ())),
+             worth((6, 0, -6), ((1, 2), (1, 4), (1, 4)))],
+            ['3: 1,0,0>=1/3 0,1,0>=1/4 0,0,1>=1/4', 'Book of 3 quotes', 2, (((1, 0), (1, 3)), ((0, 1), (1, 3))),
+             '2: 0,1>=2/3', '2:', (3, 2)])
+        self.assertEqual(
+            [is_sound(rain), is_sound(bad), chance_for(bad), losing_sale(rain), row_of(bad, ((1, 1), (1, 1))),
+             keeps(rain, ((1, 2), (1, 4), (1, 4))), keeps(rain, ((1, 1), (0, 1), (0, 1)))],
+            [True, False, None, None, ((-1, 3), (-1, 3)), True, False])
+        with self.assertRaises(InvalidQuotes) as caught:
+            Book(2, (((1, 0), (2, 4)),))
+        self.assertEqual(caught.exception.index, 0)
+
+    def test_worths(self):
+        self.assertEqual(
+            [least_worth(rain, (6, 0, -6)), greatest_worth(rain, (6, 0, -6)), least_chance(rain, (1, 2)),
+             greatest_chance(rain, (0,)), least_chance(rain, ()), end_chance(rain, (6, 0, -6)),
+             least_worth(Book(2, ()), (5, -7))],
+            [(-1, 2), (3, 2), (1, 2), (1, 2), (0, 1), ((1, 3), (1, 4), (5, 12)), (-7, 1)])
+        with self.assertRaises(NotSound):
+            least_worth(bad, (1, 0))
+
+    def test_corners(self):
+        self.assertEqual(
+            [corners(rain), corners(half), corners(Book(3, ())), is_corner(rain, ((1, 2), (1, 4), (1, 4))),
+             mean_corner(half)],
+            [(((1, 3), (1, 4), (5, 12)), ((1, 3), (5, 12), (1, 4)), ((1, 2), (1, 4), (1, 4))),
+             (((1, 3), (2, 3)), ((2, 3), (1, 3))),
+             (((0, 1), (0, 1), (1, 1)), ((0, 1), (1, 1), (0, 1)), ((1, 1), (0, 1), (0, 1))), True,
+             ((1, 2), (1, 2))])
+
+    def test_tight(self):
+        self.assertEqual(
+            [is_tight(more, 0), is_tight(more, 3), tight_prices(more), needless(more), is_needless(rain, 0),
+             least_quotes(more), follows(rain, (1, 1, 0), (7, 12)), follows(rain, (1, 1, 0), (3, 5)),
+             are_alike(rain, more), is_within(rain, Book(3, ())), parting_chance(rain, more)],
+            [True, False, ((1, 3), (1, 4), (1, 4), (7, 12)), (3,), False, ((0, 1, 2),), True, False, True, True,
+             None])
+
+    def test_bounds(self):
+        self.assertEqual(
+            [low, gathers(low), numbers_of(low), level_worth(low, (6, 0, -6)), order_chance(low, (0, 1, 2)),
+             order_chances(low) == corners(rain), scattering(low), str(book_of(loose))],
+            [((0, 1), (1, 3), (1, 4), (7, 12), (1, 4), (7, 12), (1, 2), (1, 1)), True,
+             ((0, 1), (1, 3), (1, 4), (0, 1), (1, 4), (0, 1), (0, 1), (1, 6)), (-1, 2),
+             ((1, 3), (1, 4), (5, 12)), True, None, '3: 1,1,0>=3/5 1,0,1>=3/5 0,1,1>=3/5'])
+        self.assertEqual(
+            [is_kept(loose), is_tight_bounds(loose), gathers(loose), tightened(loose)[1], tightened(loose)[3],
+             level_worth(loose, (1, 0, 0)), least_worth(book_of(loose), (1, 0, 0))],
+            [True, False, False, (1, 5), (3, 5), (0, 1), (1, 5)])
+
+
+if __name__ == "__main__":
+    unittest.main()

@@ -1,0 +1,192 @@
+"""What can be seen from outside of the rules of the language, and of the interface."""
+
+import ast
+import builtins
+import io
+import pathlib
+import re
+import tokenize
+import unittest
+
+FOLDER = pathlib.Path(__file__).resolve().parent.parent / "softchances"
+FILES = sorted(FOLDER.glob("*.py"))
+LIBRARY = {"heapq": {"heappush", "heappop", "heapify", "heapreplace", "heappushpop"},
+           "math": {"gcd", "lcm", "isqrt", "comb", "perm", "factorial"},
+           "itertools": {"product", "combinations", "permutations"}}
+BUILTINS = set("""len range enumerate zip min max sum abs sorted reversed int str bool bytes list tuple dict set
+    frozenset isinstance ord repr any all divmod iter next map Exception ValueError TypeError KeyError IndexError
+    LookupError ZeroDivisionError ArithmeticError OverflowError RuntimeError NotImplementedError AttributeError
+    StopIteration NotImplemented""".split())
+METHODS = set("""append clear copy count endswith extend find get index insert isalnum isalpha isdigit islower
+    isspace isupper items join keys ljust lower lstrip partition pop remove replace reverse rfind rjust rpartition
+    rsplit rstrip setdefault split splitlines startswith strip update upper values zfill bit_length sort add
+    discard""".split())
+DOUBLE = set("""__init__ __eq__ __repr__ __str__ __len__ __enter__ __exit__ __call__ __iter__ __contains__ __bool__
+    __getitem__ __setitem__""".split())
+# Of the nodes of Python's syntax, the rules bar these, or this package does without them.
+BARRED = (ast.Global, ast.AsyncFunctionDef, ast.AsyncFor, ast.AsyncWith, ast.Await, ast.Div, ast.GeneratorExp,
+          ast.Yield, ast.YieldFrom, ast.AnnAssign, ast.Import, ast.MatMult, ast.Try, ast.Match, ast.NamedExpr,
+          ast.SetComp, ast.Set)
+WORDS = set("""type typing typing_extensions enum Enum IntEnum StrEnum Flag IntFlag Generic Protocol ABC ABCMeta
+    namedtuple NamedTuple TypedDict TYPE_CHECKING abstractmethod register mro elements open input law version_info
+    with_traceback add_note""".split())
+
+INTERFACE = {
+    "books": {"worth": "payoff chance", "keeps": "book chance", "row_of": "book sale", "is_sound": "book",
+              "chance_for": "book", "losing_sale": "book"},
+    "worths": {"least_worth": "book payoff", "greatest_worth": "book payoff", "least_chance": "book lot",
+               "greatest_chance": "book lot", "end_chance": "book payoff", "hedge": "book payoff"},
+    "corners": {"corners": "book", "is_corner": "book chance", "mean_corner": "book"},
+    "tight": {"is_tight": "book index", "is_needless": "book index", "tight_prices": "book", "needless": "book",
+              "least_quotes": "book", "follows": "book payoff price", "is_within": "book other",
+              "are_alike": "book other", "parting_chance": "book other"},
+    "bounds": {"bounds_of": "book", "book_of": "bounds", "is_kept": "bounds", "is_tight_bounds": "bounds",
+               "gathers": "bounds", "scattering": "bounds", "tightened": "bounds", "numbers_of": "bounds",
+               "level_worth": "bounds payoff", "order_chance": "bounds order", "order_chances": "bounds"},
+}
+CLASSES = {("books", "Book"): {"__init__": "self outcomes quotes", "read": "text", "outcomes": "self",
+                               "quotes": "self", "with_quote": "self payoff price", "without": "self index",
+                               "__str__": "self", "__repr__": "self", "__eq__": "self other"}}
+
+
+def trees():
+    """Each file's name with its syntax tree."""
+    return [(path.stem, ast.parse(path.read_text(encoding="utf-8"))) for path in FILES]
+
+
+def functions_in(tree):
+    """All functions and methods of a file."""
+    return [node for node in ast.walk(tree) if isinstance(node, ast.FunctionDef)]
+
+
+def arguments_of(function):
+    """The names of the parameters, with spaces between."""
+    return " ".join(argument.arg for argument in function.args.args)
+
+
+class Files(unittest.TestCase):
+    def test_nothing_else(self):
+        for path in FOLDER.rglob("*"):
+            if "__pycache__" not in path.parts:
+                self.assertTrue(path.is_file() and re.fullmatch(r"[a-z0-9_]+\.py", path.name), path)
+
+    def test_sizes_and_characters(self):
+        for path in FILES:
+            text = path.read_text(encoding="utf-8")
+            self.assertTrue(text.endswith("\n"), path)
+            self.assertTrue(all(sign == "\n" or " " <= sign <= "~" for sign in text), path)
+            lines = text.split("\n")
+            self.assertLessEqual(len(lines) - 1, 399, path)
+            self.assertLessEqual(max(map(len, lines)), 120, path)
+            for function in functions_in(ast.parse(text)):
+                self.assertLessEqual(function.end_lineno - function.lineno + 1, 40, (path, function.name))
+
+    def test_words(self):
+        for path in FILES:
+            tokens = list(tokenize.generate_tokens(io.StringIO(path.read_text(encoding="utf-8")).readline))
+            for token in tokens:
+                if token.type == tokenize.NAME:
+                    self.assertNotIn(token.string, WORDS, (path, token.start))
+                if token.type == tokenize.STRING:
+                    self.assertNotIn("%", token.string, (path, token.start))
+                    self.assertNotIn("\\", token.string, (path, token.start))
+
+
+class Syntax(unittest.TestCase):
+    def test_barred(self):
+        for name, tree in trees():
+            for node in ast.walk(tree):
+                self.assertNotIsInstance(node, BARRED, (name, getattr(node, "lineno", None)))
+                if isinstance(node, ast.Constant):
+                    self.assertNotIsInstance(node.value, (float, complex), (name, node.lineno))
+                if isinstance(node, (ast.arg, ast.FunctionDef)):
+                    self.assertIsNone(getattr(node, "annotation", None) or getattr(node, "returns", None))
+
+    def test_module_level(self):
+        for name, tree in trees():
+            for place, node in enumerate(tree.body):
+                doc = place == 0 and isinstance(node, ast.Expr) and isinstance(node.value, ast.Constant)
+                plain = isinstance(node, ast.Assign) and isinstance(node.targets[0], ast.Name)
+                self.assertTrue(doc or plain or isinstance(node, (ast.ImportFrom, ast.FunctionDef, ast.ClassDef)),
+                                (name, node.lineno))
+
+    def test_decorators(self):
+        for name, tree in trees():
+            for node in ast.walk(tree):
+                for mark in getattr(node, "decorator_list", ()):
+                    self.assertIn(ast.unparse(mark), ("property", "staticmethod", "classmethod"), (name, node.lineno))
+
+    def test_names(self):
+        for name, tree in trees():
+            bound = {alias.name for node in tree.body if isinstance(node, ast.ImportFrom) for alias in node.names}
+            classes = {node.name for node in tree.body if isinstance(node, ast.ClassDef)}
+            for node in ast.walk(tree):
+                if isinstance(node, ast.Name):
+                    if isinstance(node.ctx, ast.Store):
+                        self.assertNotIn(node.id, bound | classes | set(vars(builtins)), (name, node.lineno))
+                    elif node.id in vars(builtins):
+                        self.assertIn(node.id, BUILTINS | {"property", "staticmethod"}, (name, node.lineno))
+                if isinstance(node, ast.arg):
+                    self.assertNotIn(node.arg, bound | classes | set(vars(builtins)), (name, node.lineno))
+                if isinstance(node, ast.FunctionDef) and node.name.startswith("__"):
+                    self.assertIn(node.name, DOUBLE, (name, node.lineno))
+
+    def test_methods(self):
+        own = {function.name for _, tree in trees() for function in functions_in(tree)}
+        for name, tree in trees():
+            for node in ast.walk(tree):
+                if isinstance(node, ast.Call) and isinstance(node.func, ast.Attribute):
+                    self.assertIn(node.func.attr, METHODS | own, (name, node.lineno))
+
+
+class Imports(unittest.TestCase):
+    def imported(self, tree):
+        """The pairs of a module and a name that a file imports."""
+        return [(node.module, alias.name, alias.asname, node.level) for node in ast.walk(tree)
+                if isinstance(node, ast.ImportFrom) for alias in node.names]
+
+    def test_what_is_imported(self):
+        defined = {name: {node.name for node in tree.body if isinstance(node, (ast.FunctionDef, ast.ClassDef))}
+                   | {node.targets[0].id for node in tree.body if isinstance(node, ast.Assign)}
+                   for name, tree in trees()}
+        for name, tree in trees():
+            used = {node.id for node in ast.walk(tree) if isinstance(node, ast.Name)}
+            for module, what, other, level in self.imported(tree):
+                self.assertEqual((other, level), (None, 0), name)
+                known = LIBRARY.get(module)
+                if known is None:
+                    self.assertTrue(module.startswith("softchances."), (name, module))
+                    known = defined[module.split(".")[1]]
+                self.assertIn(what, known, (name, module))
+                self.assertIn(what, used, (name, module))
+
+    def test_no_circles(self):
+        over = {name: {module.split(".")[1] for module, *_ in self.imported(tree) if "." in module}
+                for name, tree in trees()}
+        while over:
+            free = [name for name, needs in over.items() if not needs & set(over)]
+            self.assertTrue(free, over)
+            for name in free:
+                del over[name]
+
+
+class Interface(unittest.TestCase):
+    def test_functions(self):
+        files = dict(trees())
+        for module, listed in INTERFACE.items():
+            made = {node.name: arguments_of(node) for node in files[module].body
+                    if isinstance(node, ast.FunctionDef)}
+            for name, arguments in listed.items():
+                self.assertEqual(made.get(name), arguments, (module, name))
+
+    def test_classes(self):
+        files = dict(trees())
+        for (module, name), methods in CLASSES.items():
+            body = next(node.body for node in files[module].body
+                        if isinstance(node, ast.ClassDef) and node.name == name)
+            made = {node.name: arguments_of(node) for node in body if isinstance(node, ast.FunctionDef)}
+            self.assertEqual({method: made.get(method) for method in methods}, methods)
+
+
+if __name__ == "__main__":
+    unittest.main()
