@@ -120,6 +120,9 @@ class Syntax(unittest.TestCase):
         for name, tree in trees():
             bound = {alias.name for node in tree.body if isinstance(node, ast.ImportFrom) for alias in node.names}
             classes = {node.name for node in tree.body if isinstance(node, ast.ClassDef)}
+            for node in tree.body:
+                if isinstance(node, (ast.FunctionDef, ast.ClassDef)):
+                    self.assertNotIn(node.name, vars(builtins), (name, node.lineno))
             for node in ast.walk(tree):
                 if isinstance(node, ast.Name):
                     if isinstance(node.ctx, ast.Store):
