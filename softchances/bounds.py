@@ -30,8 +30,7 @@ def book_of(bounds):
 def is_kept(bounds):
     """Whether some chance keeps the bounds."""
     check_bounds(bounds)
-    _, chance, _ = least_end(bound_rows(bounds), (0,) * outcomes_of(bounds))
-    return chance is not None
+    return are_kept(bound_rows(bounds), outcomes_of(bounds))
 
 
 def is_tight_bounds(bounds):
@@ -56,9 +55,8 @@ def scattering(bounds):
 
 def tightened(bounds):
     """The least chances of all lots at the chances that keep the bounds."""
-    if not is_kept(bounds):
-        raise NotSound()
-    return least_chances(bound_rows(bounds), outcomes_of(bounds))
+    check_bounds(bounds)
+    return sound_chances(bound_rows(bounds), outcomes_of(bounds))
 
 
 def numbers_of(bounds):
@@ -94,6 +92,18 @@ def order_chances(bounds):
 def least_chances(rows, outcomes):
     """The least chances of all lots at the chances that keep the rows."""
     return tuple([least_end(rows, lot_payoff(lot_at(place), outcomes))[0] for place in range(1 << outcomes)])
+
+
+def sound_chances(rows, outcomes):
+    """These least chances; NotSound if no chance keeps the rows."""
+    if not are_kept(rows, outcomes):
+        raise NotSound()
+    return least_chances(rows, outcomes)
+
+
+def are_kept(rows, outcomes):
+    """Whether some chance keeps the rows."""
+    return least_end(rows, (0,) * outcomes)[1] is not None
 
 
 def lot_quotes(bounds):

@@ -1,17 +1,31 @@
 """Checks of what is passed: each one raises the error that the document tells."""
 
-from softchances.errors import InvalidBounds, InvalidChance, InvalidFraction, InvalidIndex
-from softchances.errors import InvalidLot, InvalidNumber, InvalidOrder, InvalidPayoff
-from softchances.errors import InvalidQuotes, InvalidSale
-from softchances.kinds import is_fraction, is_integer_from, is_lot, is_outcome_number
-from softchances.kinds import is_payoff, is_price, is_quote, is_share
-from softchances.limits import MOST_OUTCOMES, MOST_QUOTES
+from softchances.errors import InvalidActs, InvalidBounds, InvalidChance, InvalidFraction, InvalidIndex
+from softchances.errors import InvalidLot, InvalidMasses, InvalidNumber, InvalidOrder, InvalidPayoff
+from softchances.errors import InvalidQuestion, InvalidQuotes, InvalidRanges, InvalidSale, InvalidSayings
+from softchances.kinds import is_fraction, is_full_lot, is_integer_from, is_lot, is_mass, is_outcome_number
+from softchances.kinds import is_payoff, is_price, is_quote, is_range, is_share
+from softchances.limits import MOST_ACTS, MOST_LISTED, MOST_OUTCOMES, MOST_QUOTES, MOST_STEPS
 from softchances.ratios import ONE, ZERO, is_below, plus
+
+_MOST_SAYINGS = 8
 
 
 def check_outcomes(given):
     """InvalidNumber if there can not be so many outcomes."""
     if not is_outcome_number(given):
+        raise InvalidNumber(given)
+
+
+def check_few_outcomes(given):
+    """InvalidNumber if masses can not be for so many outcomes."""
+    if not is_integer_from(given, 2, MOST_LISTED):
+        raise InvalidNumber(given)
+
+
+def check_steps(given):
+    """InvalidNumber if a walk can not go on for so many steps."""
+    if not is_integer_from(given, 0, MOST_STEPS):
         raise InvalidNumber(given)
 
 
@@ -42,9 +56,21 @@ def check_price(given):
         raise InvalidFraction(given)
 
 
+def check_share(given):
+    """InvalidFraction if it is no share that may be passed."""
+    if not is_share(given):
+        raise InvalidFraction(given)
+
+
 def check_lot(given, outcomes):
     """InvalidLot if it is no lot of so many outcomes."""
     if not is_lot(given, outcomes):
+        raise InvalidLot(given)
+
+
+def check_full_lot(given, outcomes):
+    """InvalidLot if it is no lot of so many outcomes, or the empty one."""
+    if not is_full_lot(given, outcomes):
         raise InvalidLot(given)
 
 
@@ -67,6 +93,13 @@ def check_chance(given, outcomes):
             raise InvalidChance(at)
     if is_below(so_far, ONE):
         raise InvalidChance(None)
+
+
+def check_short_chance(given):
+    """InvalidChance likewise, for a chance of two to five outcomes."""
+    if not isinstance(given, tuple) or not 2 <= len(given) <= MOST_LISTED:
+        raise InvalidChance(None)
+    check_chance(given, len(given))
 
 
 def check_sale(given, many):
@@ -104,3 +137,60 @@ def check_order(given, outcomes):
     for at, outcome in enumerate(given):
         if not is_integer_from(outcome, 0, outcomes - 1) or outcome in given[:at]:
             raise InvalidOrder(at)
+
+
+def check_masses(given, outcomes):
+    """InvalidMasses with the first wrong element, None for the whole value."""
+    if not isinstance(given, tuple):
+        raise InvalidMasses(None)
+    so_far = ZERO
+    for at, mass in enumerate(given):
+        if not is_mass(mass, outcomes) or at > 0 and mass[0] <= given[at - 1][0]:
+            raise InvalidMasses(at)
+        so_far = plus(so_far, mass[1])
+        if is_below(ONE, so_far):
+            raise InvalidMasses(at)
+    if is_below(so_far, ONE):
+        raise InvalidMasses(None)
+
+
+def check_ranges(given, least, most):
+    """InvalidRanges with the first wrong element, None for the whole value."""
+    if not isinstance(given, tuple) or not least <= len(given) <= most:
+        raise InvalidRanges(None)
+    for at, pair in enumerate(given):
+        if not is_range(pair):
+            raise InvalidRanges(at)
+
+
+def check_question(given, outcomes):
+    """InvalidQuestion with the first wrong element, None for the whole value."""
+    if not isinstance(given, tuple) or len(given) < 2:
+        raise InvalidQuestion(None)
+    asked = ()
+    for at, lot in enumerate(given):
+        if not is_full_lot(lot, outcomes) or any([outcome in asked for outcome in lot]):
+            raise InvalidQuestion(at)
+        asked = asked + lot
+    if len(asked) < outcomes:
+        raise InvalidQuestion(None)
+
+
+def check_sayings(given, outcomes):
+    """InvalidSayings with the first wrong element, None for the whole value."""
+    if not isinstance(given, tuple) or len(given) < 2:
+        raise InvalidSayings(None)
+    for at, lot in enumerate(given):
+        if at == _MOST_SAYINGS or not is_full_lot(lot, outcomes) or lot in given[:at]:
+            raise InvalidSayings(at)
+    if any([all([outcome not in lot for lot in given]) for outcome in range(outcomes)]):
+        raise InvalidSayings(None)
+
+
+def check_acts(given, outcomes):
+    """InvalidActs with the first wrong element, None for the whole value."""
+    if not isinstance(given, tuple) or len(given) == 0:
+        raise InvalidActs(None)
+    for at, payoff in enumerate(given):
+        if at == MOST_ACTS or not is_payoff(payoff, outcomes):
+            raise InvalidActs(at)

@@ -36,6 +36,14 @@ def is_share(value):
     return is_fraction(value) and 0 <= value[0] <= value[1]
 
 
+def is_range(value):
+    """Whether it is a pair of shares that may be passed, the first one at most the second one."""
+    if not isinstance(value, tuple) or len(value) != 2:
+        return False
+    low, high = value
+    return is_share(low) and is_share(high) and low[0] * high[1] <= high[0] * low[1]
+
+
 def is_price(value):
     """Whether it is the price of a quote."""
     return is_ratio(value, MOST_PRICE_TOP, MOST_PRICE_BOTTOM)
@@ -70,3 +78,16 @@ def is_lot(value, outcomes):
             return False
         least = outcome + 1
     return True
+
+
+def is_full_lot(value, outcomes):
+    """Whether it is a lot of so many outcomes that is not empty."""
+    return is_lot(value, outcomes) and len(value) > 0
+
+
+def is_mass(value, outcomes):
+    """Whether it is a pair of a lot that is not empty and a share above 0."""
+    if not isinstance(value, tuple) or len(value) != 2:
+        return False
+    lot, number = value
+    return is_full_lot(lot, outcomes) and is_share(number) and number[0] > 0

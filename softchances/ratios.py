@@ -35,6 +35,23 @@ def times(one, two):
     return ratio(one[0] * two[0], one[1] * two[1])
 
 
+def divided(one, two):
+    """The first fraction divided by the second one, which is above 0."""
+    return ratio(one[0] * two[1], one[1] * two[0])
+
+
+def set_against(share):
+    """A share below 1, divided by what is left of 1."""
+    top, bottom = share
+    return ratio(top, bottom - top)
+
+
+def over_rest(numbers, share):
+    """The tuple of the numbers, each divided by what is left of 1."""
+    rest = minus(ONE, share)
+    return tuple([divided(number, rest) for number in numbers])
+
+
 def opposite(one):
     """The fraction with the other sign."""
     return -one[0], one[1]
@@ -43,6 +60,15 @@ def opposite(one):
 def is_below(one, two):
     """Whether the first fraction is less than the second one."""
     return one[0] * two[1] < two[0] * one[1]
+
+
+def least_of(parts):
+    """The least one of some fractions."""
+    least = parts[0]
+    for part in parts:
+        if is_below(part, least):
+            least = part
+    return least
 
 
 def total(parts):

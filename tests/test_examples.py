@@ -7,6 +7,10 @@ from softchances.bounds import (book_of, bounds_of, gathers, is_kept, is_tight_b
                                 order_chance, order_chances, scattering, tightened)
 from softchances.corners import corners, is_corner, mean_corner
 from softchances.errors import InvalidQuotes, NotSound
+from softchances.masses import (belief, beliefs, clash, masses_behind, masses_of, put_together, room, sure_worth,
+                                weakened)
+from softchances.news import chances_behind, greatest_behind, least_behind, least_by_question, widens
+from softchances.shapes import beginning_bounds, near_bounds, range_bounds, stirred_bounds
 from softchances.tight import (are_alike, follows, is_needless, is_tight, is_within, least_quotes, needless,
                                parting_chance, tight_prices)
 from softchances.worths import end_chance, greatest_chance, greatest_worth, least_chance, least_worth
@@ -15,6 +19,10 @@ rain = Book(3, (((1, 0, 0), (1, 3)), ((0, 1, 0), (1, 4)), ((0, 0, 1), (1, 4))))
 bad, half = Book(2, (((1, 0), (2, 3)), ((0, 1), (2, 3)))), Book.read("2: 1,0>=1/3 0,1>=1/3")
 more = rain.with_quote((1, 1, 0), (1, 2))
 low, loose = bounds_of(rain), ((0, 1), (0, 1), (0, 1), (3, 5), (0, 1), (3, 5), (3, 5), (1, 1))
+some, news = (((0,), (1, 2)), ((0, 1), (1, 4)), ((0, 1, 2), (1, 4))), (((0, 1, 2), (1, 2)), ((1,), (1, 2)))
+plain = ((1, 2), (1, 4), (1, 4))
+coins = Book(4, (((1, 1, 0, 0), (1, 2)), ((-1, -1, 0, 0), (-1, 2)), ((1, 0, 1, 0), (1, 2)),
+                 ((-1, 0, -1, 0), (-1, 2))))
 
 
 class Examples(unittest.TestCase):
@@ -69,6 +77,40 @@ class Examples(unittest.TestCase):
             [is_kept(loose), is_tight_bounds(loose), gathers(loose), tightened(loose)[1], tightened(loose)[3],
              level_worth(loose, (1, 0, 0)), least_worth(book_of(loose), (1, 0, 0))],
             [True, False, False, (1, 5), (3, 5), (0, 1), (1, 5)])
+
+    def test_masses(self):
+        self.assertEqual(
+            [masses_of(low), masses_of(loose), belief(3, some, (0, 1)), room(3, some, (1,)),
+             sure_worth(3, some, (4, 2, 0)), beliefs(3, some)[3], clash(3, some, news)],
+            [(((0,), (1, 3)), ((0, 1, 2), (1, 6)), ((1,), (1, 4)), ((2,), (1, 4))), None, (3, 4), (1, 2), (5, 2),
+             (3, 4), (1, 4)])
+        self.assertEqual(
+            [put_together(3, some, news), weakened(3, some, (1, 2)), masses_behind(3, some, (1, 2))],
+            [(((0,), (1, 3)), ((0, 1), (1, 6)), ((0, 1, 2), (1, 6)), ((1,), (1, 3))),
+             (((0,), (1, 4)), ((0, 1), (1, 8)), ((0, 1, 2), (5, 8))), (((1,), (1, 2)), ((1, 2), (1, 2)))])
+
+    def test_shapes(self):
+        self.assertEqual(
+            [range_bounds((((1, 3), (1, 2)), ((1, 4), (5, 12)), ((0, 1), (1, 1)))), stirred_bounds(plain, (1, 3)),
+             near_bounds(plain, (1, 4)), beginning_bounds((((1, 4), (1, 2)), ((1, 2), (3, 4))))],
+            [((0, 1), (1, 3), (1, 4), (7, 12), (1, 12), (7, 12), (1, 2), (1, 1)),
+             ((0, 1), (1, 3), (1, 6), (1, 2), (1, 6), (1, 2), (1, 3), (1, 1)),
+             ((0, 1), (1, 4), (0, 1), (1, 2), (0, 1), (1, 2), (1, 4), (1, 1)),
+             ((0, 1), (1, 4), (0, 1), (1, 2), (1, 4), (1, 2), (1, 2), (1, 1))])
+        with self.assertRaises(NotSound):
+            range_bounds((((0, 1), (1, 3)), ((0, 1), (1, 3))))
+
+    def test_news(self):
+        self.assertEqual(
+            [least_behind(rain, (0, 1), (1, 0, 0)), greatest_behind(rain, (0, 1), (1, 0, 0)),
+             chances_behind(rain, (0, 1)), least_behind(coins, (0, 2), (1, 1, 0, 0)),
+             greatest_behind(coins, (0, 2), (1, 1, 0, 0)), least_worth(coins, (1, 1, 0, 0))],
+            [(4, 9), (2, 3), (((4, 9), (5, 9), (0, 1)), ((4, 7), (3, 7), (0, 1)), ((2, 3), (1, 3), (0, 1))), (0, 1),
+             (1, 1), (1, 2)])
+        self.assertEqual(
+            [widens(coins, ((0, 2), (1, 3)), (1, 1, 0, 0)), widens(coins, ((0, 3), (1, 2)), (1, 1, 0, 0)),
+             least_by_question(rain, ((0, 1), (2,)), (1, 0, 0))],
+            [True, False, (0, 1)])
 
 
 if __name__ == "__main__":

@@ -21,6 +21,11 @@ NO_PRICES = (None, True, 1, "1/2", (), (1,), (1, 2, 3), [1, 2], (2, 4), (0, 2), 
 ODD_VALUES = (None, True, 0, 7, "", "ab", b"ab", {}, {"a": 1}, set(), object(), RAIN, [], ValueError(), [[[()]]], len)
 
 
+NO_SHARES = (None, True, False, 0, 1, "1/2", "", b"", (), (1,), (1, 2, 3), [1, 2], (2, 4), (0, 2), (1, 0), (-1, 2),
+             (3, 2), (2, 1), (1, -2), (-1, -2), (True, 2), (1, True), (False, 1), (None, 1), (1, "2"), ((1, 2), 1),
+             (1, 10 ** 6 + 1), (10 ** 6, 10 ** 6 + 1), (1, 10 ** 79), {}, RAIN)
+
+
 def no_payoffs(outcomes):
     """Values that are no payoffs for so many outcomes."""
     zeros = (0,) * (outcomes - 1)
@@ -38,6 +43,16 @@ def no_lots(outcomes):
 def no_indexes(many):
     """Values that are no index of one of so many."""
     return (many, -1, True, False, None, "0", (0,), [0], 10 ** 70, -10 ** 70, RAIN, object())
+
+
+def given(error, values):
+    """The triples of a wrong value, its error and what this keeps, for errors with `given`."""
+    return tuple((value, error, {"given": value}) for value in values)
+
+
+def indexed(error, rows):
+    """The same of pairs of a wrong value and an index, for errors with `index`."""
+    return tuple((value, error, {"index": index}) for value, index in rows)
 
 
 def frac(pair):
@@ -124,6 +139,22 @@ def corners_by_hand(book):
     return corners_of_limits(book.outcomes, [(payoff, Fraction(*price)) for payoff, price in book.quotes])
 
 
+def behind_by_hand(chance, lot):
+    """What a chance of plain numbers becomes behind the news of a lot, None if it has no chance."""
+    whole = sum((chance[at] for at in lot), Fraction(0))
+    return tuple(number / whole if at in lot else Fraction(0) for at, number in enumerate(chance)) if whole else None
+
+
+def all_behind(corners, lot):
+    """What the corners at which the lot has a chance become behind its news."""
+    return [behind for behind in (behind_by_hand(corner, lot) for corner in corners) if behind is not None]
+
+
+def worths_behind(corners, lot, payoff):
+    """The worths of a payoff behind the news of a lot, of all corners at which the lot has a chance."""
+    return [worth_by_hand(payoff, behind) for behind in all_behind(corners, lot)]
+
+
 def price_below(number, bottom):
     """A price that is at most this number, or the least one."""
     return pair(Fraction(max((number * bottom).__floor__(), -10 ** 6), bottom))
@@ -182,6 +213,20 @@ def some_books(seed, sound=True):
         yield point_book(random_chance(rng, outcomes))
 
 
+def never_books(seed, most_outcomes=5):
+    """Sound books by which some outcomes have no chance, or a chance at some corners alone."""
+    rng = random.Random(seed)
+    for outcomes in range(2, most_outcomes + 1):
+        for many in (0, 1, 2, 3):
+            book = sound_book(rng, outcomes, many, most=2)
+            without = rng.sample(range(outcomes), rng.randint(1, outcomes - 1))
+            for at in without:
+                payoff = tuple(-int(place == at) for place in range(outcomes))
+                if corners_by_hand(book.with_quote(payoff, (0, 1))):
+                    book = book.with_quote(payoff, (0, 1))
+            yield book
+
+
 def small_books(seed, most_outcomes=6):
     """Sound books that are small enough to find their corners by hand."""
     rng = random.Random(seed)
@@ -229,3 +274,14 @@ class Told:
         """The call raises the error by place and by name."""
         self.check_error(error, kept, call, *args)
         self.check_error(error, kept, call, **dict(zip(names.split(), args)))
+
+    def check_first_errors(self, call, names, right, wrong):
+        """Each wrong value raises its error; those behind it may be wrong, too.
+
+        For each argument `wrong` has triples of a value, an error and what the error keeps.
+        """
+        for at, rows in enumerate(wrong):
+            behind = {"right": right[at + 1:], "wrong": tuple(others[0][0] for others in wrong[at + 1:])}
+            for value, error, kept in rows:
+                for rest in behind.values():
+                    self.check_error_both_ways(error, kept, call, names, *right[:at], value, *rest)
