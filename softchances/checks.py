@@ -183,7 +183,7 @@ def check_sayings(given, outcomes):
     for at, lot in enumerate(given):
         if at == _MOST_SAYINGS or not is_full_lot(lot, outcomes) or lot in given[:at]:
             raise InvalidSayings(at)
-    if any([all([outcome not in lot for lot in given]) for outcome in range(outcomes)]):
+    if any([all([outcome not in saying for saying in given]) for outcome in range(outcomes)]):
         raise InvalidSayings(None)
 
 

@@ -4,7 +4,7 @@ from softchances.behind import end_behind, may_come
 from softchances.books import check_book, scaled_rows
 from softchances.checks import check_lot, check_payoff, check_question
 from softchances.corners import chance_of, corner_rays
-from softchances.ends import check_listed, check_sound, opposite_payoff
+from softchances.ends import check_listed, opposite_payoff
 from softchances.errors import Never
 from softchances.ratios import ascending_by_size, is_below, least_of, opposite
 from softchances.worths import greatest_worth, least_worth
@@ -58,7 +58,6 @@ def check_asked(book, question, payoff):
     check_book(book)
     check_question(question, book.outcomes)
     check_payoff(payoff, book.outcomes)
-    check_sound(book)
 
 
 def ray_on(ray, lot):

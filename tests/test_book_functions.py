@@ -5,7 +5,7 @@ from fractions import Fraction
 from softchances.books import Book, chance_for, is_sound, keeps, losing_sale, row_of, worth
 from softchances.errors import InvalidChance, InvalidPayoff, InvalidSale, NotABook
 from tests.tools import (BAD, HALF, NO_BOOKS, ODD_VALUES, RAIN, Told, any_book, corners_by_hand, fracs,
-                         keeps_by_hand, no_payoffs, pair, pairs, point_book, random_chance, random_payoff,
+                         keeps_by_hand, pair, pairs, point_book, random_chance, random_payoff,
                          row_by_hand, some_books, worth_by_hand)
 
 PLAIN = ((1, 2), (1, 4), (1, 4))

@@ -2,17 +2,21 @@
 
 import unittest
 
+from softchances.acts import (beating_mix, best_mix, chance_for_act, good_acts, open_acts, safe_acts, unbeaten_acts)
 from softchances.books import Book, chance_for, is_sound, keeps, losing_sale, row_of, worth
 from softchances.bounds import (book_of, bounds_of, gathers, is_kept, is_tight_bounds, level_worth, numbers_of,
                                 order_chance, order_chances, scattering, tightened)
 from softchances.corners import corners, is_corner, mean_corner
 from softchances.errors import InvalidQuotes, NotSound
+from softchances.losses import cheapest_mend, culprits, least_cost, losing_mix, loss
 from softchances.masses import (belief, beliefs, clash, masses_behind, masses_of, put_together, room, sure_worth,
                                 weakened)
 from softchances.news import chances_behind, greatest_behind, least_behind, least_by_question, widens
 from softchances.shapes import beginning_bounds, near_bounds, range_bounds, stirred_bounds
+from softchances.tellers import bound_to, greatest_told, is_told_nothing, least_told
 from softchances.tight import (are_alike, follows, is_needless, is_tight, is_within, least_quotes, needless,
                                parting_chance, tight_prices)
+from softchances.walks import greatest_after, greatest_meet, least_after, least_meet, least_row, worst_plan
 from softchances.worths import end_chance, greatest_chance, greatest_worth, least_chance, least_worth
 
 rain = Book(3, (((1, 0, 0), (1, 3)), ((0, 1, 0), (1, 4)), ((0, 0, 1), (1, 4))))
@@ -23,6 +27,11 @@ some, news = (((0,), (1, 2)), ((0, 1), (1, 4)), ((0, 1, 2), (1, 4))), (((0, 1, 2
 plain = ((1, 2), (1, 4), (1, 4))
 coins = Book(4, (((1, 1, 0, 0), (1, 2)), ((-1, -1, 0, 0), (-1, 2)), ((1, 0, 1, 0), (1, 2)),
                  ((-1, 0, -1, 0), (-1, 2))))
+
+thirds = Book(3, (((1, 0, 0), (1, 3)), ((0, 1, 0), (1, 3)), ((0, 0, 1), (1, 3))))
+doors = ((0, 2), (0, 1))
+three, four = ((6, 0), (0, 6), (2, 2)), ((3, 0, 0), (0, 4, 4), (2, 2, 2))
+go, back = Book(2, (((0, 1), (1, 4)), ((1, 0), (1, 2)))), Book(2, (((1, 0), (1, 3)),))
 
 
 class Examples(unittest.TestCase):
@@ -111,6 +120,37 @@ class Examples(unittest.TestCase):
             [widens(coins, ((0, 2), (1, 3)), (1, 1, 0, 0)), widens(coins, ((0, 3), (1, 2)), (1, 1, 0, 0)),
              least_by_question(rain, ((0, 1), (2,)), (1, 0, 0))],
             [True, False, (0, 1)])
+
+    def test_tellers(self):
+        self.assertEqual(
+            [bound_to(thirds, doors, 0), least_told(thirds, doors, 0, (1, 0, 0)),
+             greatest_told(thirds, doors, 0, (1, 0, 0)), least_told(thirds, doors, 0, (0, 0, 1)),
+             is_told_nothing(thirds, doors, (1, 0, 0)), is_told_nothing(thirds, doors, (0, 0, 1))],
+            [(2,), (0, 1), (1, 2), (1, 2), True, False])
+
+    def test_acts(self):
+        self.assertEqual(
+            [safe_acts(half, three), unbeaten_acts(half, three), good_acts(half, three), open_acts(half, three),
+             chance_for_act(half, three, 2), beating_mix(half, three, 0), best_mix(half, three)],
+            [(0, 1, 2), (0, 1, 2), (0, 1), (0, 1, 2), None, None, ((3, 1), ((1, 2), (1, 2), (0, 1)))])
+        self.assertEqual(
+            [safe_acts(rain, four), unbeaten_acts(rain, four), good_acts(rain, four), open_acts(rain, four),
+             best_mix(rain, four)[0]],
+            [(1, 2), (1, 2), (1, 2), (1, 2), (2, 1)])
+
+    def test_losses(self):
+        self.assertEqual(
+            [loss(bad), losing_mix(bad), least_cost(bad), culprits(bad), loss(rain), losing_mix(rain),
+             least_cost(rain), cheapest_mend(half)],
+            [(1, 6), ((1, 2), (1, 2)), (1, 3), (0, 1), (0, 1), None, (0, 1), ((0, 1), (0, 1))])
+
+    def test_walks(self):
+        self.assertEqual(
+            [least_after((go, back), (0, 1), 1), greatest_after((go, back), (0, 1), 1),
+             least_after((go, back), (0, 1), 2), least_meet((go, back), (1,), 2), greatest_meet((go, back), (1,), 2),
+             least_row((go, back), (0, 1), 2), worst_plan((go, back), (0, 1))],
+            [((1, 4), (0, 1)), ((1, 2), (2, 3)), ((1, 8), (1, 12)), ((7, 16), (1, 1)), ((3, 4), (1, 1)),
+             ((0, 1), (1, 4), (1, 8)), (((3, 4), (1, 4)), ((1, 1), (0, 1)))])
 
 
 if __name__ == "__main__":

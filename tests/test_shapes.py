@@ -235,7 +235,8 @@ class ByCorners(Told, unittest.TestCase):
                     step = min(left, moved[at])
                     moved[at], moved[outside], left = moved[at] - step, moved[outside] + step, left - step
                 self.assertTrue(is_chance(moved, outcomes))
-                self.assertTrue(all(sum(chance[at] - moved[at] for at in other) <= share for other in lots_of(outcomes)))
+                for other in lots_of(outcomes):
+                    self.assertLessEqual(sum(chance[at] - moved[at] for at in other), share)
                 self.assertEqual(sum((moved[at] for at in lot), Fraction(0)), least)
                 self.assertEqual(least, max(0, sum((chance[at] for at in lot), Fraction(0)) - share))
             self.assertEqual(told[-1], 1)

@@ -103,33 +103,56 @@ def row_by_hand(book, sale):
                      Fraction(0)) for at in range(book.outcomes))
 
 
-def solution(rows):
-    """The only numbers with these worths (the last of each row), None if there are none or many."""
-    rows = [list(row) for row in rows]
-    width = len(rows[0]) - 1
-    for column in range(width):
-        place = next((at for at in range(column, len(rows)) if rows[at][column] != 0), None)
+def level_row(payoff, least):
+    """The payoff less a number, in whole numbers: its worth is 0 where the payoff's is the number."""
+    least = Fraction(least)
+    return [number * least.denominator - least.numerator for number in payoff]
+
+
+def level_ray(rows):
+    """The only direction, up to its sign, in which rows of whole numbers are all worth 0; None if there are more.
+
+    There is one row less than it has numbers.
+    """
+    rows, before, at, free = [list(row) for row in rows], 1, 0, None
+    for column in range(len(rows) + 1):
+        place = next((place for place in range(at, len(rows)) if rows[place][column]), None)
         if place is None:
-            return None
-        rows[column], rows[place] = rows[place], rows[column]
-        lead = rows[column][column]
-        rows[column] = [number / lead for number in rows[column]]
-        for at, row in enumerate(rows):
-            if at != column and row[column] != 0:
-                factor = row[column]
-                rows[at] = [one - factor * two for one, two in zip(row, rows[column])]
-    return tuple(row[-1] for row in rows[:width])
+            if free is not None:
+                return None
+            free = column
+            continue
+        rows[at], rows[place] = rows[place], rows[at]
+        lead = rows[at]
+        for other, row in enumerate(rows):
+            if other != at:
+                rows[other] = [(lead[column] * one - row[column] * two) // before for one, two in zip(row, lead)]
+        before, at = lead[column], at + 1
+    ray = [-row[free] for row in rows]
+    return ray[:free] + [before] + ray[free:]
+
+
+def level_chance(rows):
+    """The only chance at which rows of whole numbers are all worth 0, None if there is none."""
+    ray = level_ray(rows)
+    whole = sum(ray) if ray else 0
+    if not whole or min(number * whole for number in ray) < 0:
+        return None
+    return tuple(Fraction(number, whole) for number in ray)
+
+
+def unit_rows(outcomes):
+    """The payoffs that are 1 at one outcome."""
+    return [[int(at == place) for at in range(outcomes)] for place in range(outcomes)]
 
 
 def corners_of_limits(outcomes, limits):
     """All corners, ascending, of the chances with payoffs worth at least as much as told."""
-    unit = [[Fraction(int(at == place)) for at in range(outcomes)] + [Fraction(0)] for place in range(outcomes)]
-    edges = unit + [[Fraction(number) for number in payoff] + [Fraction(least)] for payoff, least in limits]
-    whole = [Fraction(1)] * (outcomes + 1)
+    rows = [level_row(payoff, least) for payoff, least in limits]
     found = set()
-    for chosen in combinations(edges, outcomes - 1):
-        chance = solution([whole] + list(chosen))
-        if chance is not None and all(worth_by_hand(row[:-1], chance) >= row[-1] for row in edges):
+    for chosen in combinations(unit_rows(outcomes) + rows, outcomes - 1):
+        chance = level_chance(chosen)
+        if chance is not None and chance not in found and all(worth_by_hand(row, chance) >= 0 for row in rows):
             found.add(chance)
     return sorted(found)
 
