@@ -21,11 +21,10 @@ class Book:
     @staticmethod
     def read(text):
         """The book with this text."""
-        parts = book_parts_in(text) if isinstance(text, str) else None
-        if parts is None:
+        book = book_with(text)
+        if book is None:
             raise InvalidText(text)
-        outcomes, quotes = parts
-        return Book(outcomes, quotes)
+        return book
 
     @property
     def outcomes(self):
@@ -58,6 +57,15 @@ class Book:
 
     def __eq__(self, other):
         return isinstance(other, Book) and self._outcomes == other._outcomes and self._quotes == other._quotes
+
+
+def book_with(text):
+    """The book with this text, None for anything else."""
+    parts = book_parts_in(text) if isinstance(text, str) else None
+    if parts is None:
+        return None
+    outcomes, quotes = parts
+    return Book(outcomes, quotes)
 
 
 def check_book(given):
@@ -98,13 +106,23 @@ def keeps(book, chance):
     """Whether the chance keeps the book."""
     check_book(book)
     check_chance(chance, book.outcomes)
-    return not any([is_below(weighed(row, chance), ZERO) for row in scaled_rows(book)])
+    return len(lacking(book, chance)) == 0
+
+
+def lacking(book, chance):
+    """The list of the indexes of the quotes that the chance does not keep."""
+    return [at for at, row in enumerate(scaled_rows(book)) if is_below(weighed(row, chance), ZERO)]
 
 
 def row_of(book, sale):
     """The row of a sale: a tuple of fractions, one for each outcome."""
     check_book(book)
     check_sale(sale, len(book.quotes))
+    return row_by(book, sale)
+
+
+def row_by(book, sale):
+    """The row of a sale, without a look at what is passed."""
     return tuple([row_number(book.quotes, sale, outcome) for outcome in range(book.outcomes)])
 
 

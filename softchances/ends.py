@@ -20,10 +20,15 @@ def check_sound(book):
         raise NotSound()
 
 
-def check_both(book, other):
-    """Unlike for two books with unlike numbers of outcomes, NotSound for either."""
+def check_like(book, other):
+    """Unlike for two books with unlike numbers of outcomes."""
     if book.outcomes != other.outcomes:
         raise Unlike()
+
+
+def check_both(book, other):
+    """Unlike for two books with unlike numbers of outcomes, NotSound for either."""
+    check_like(book, other)
     check_sound(book)
     check_sound(other)
 

@@ -76,18 +76,18 @@ def steps_from(walk, payoff, held, steps):
     worths = tuple([(number, 1) for number in payoff])
     told = [worths]
     for _ in range(steps):
-        worths = tuple([worths[at] if at in held else least_of_step(book, worths) for at, book in enumerate(walk)])
+        worths = tuple([worths[at] if at in held else end_of_step(book, worths)[0] for at, book in enumerate(walk)])
         told.append(worths)
     return told
 
 
-def least_of_step(book, worths):
-    """The least worth, by the book, of worths that are fractions."""
+def end_of_step(book, worths):
+    """The pair of the least worth, by the book, of worths that are fractions, and a chance with it."""
     shared = 1
     for _, bottom in worths:
         shared = lcm(shared, bottom)
-    (top, bottom), _, _ = sound_end(book, tuple([number * (shared // under) for number, under in worths]))
-    return ratio(top, bottom * shared)
+    (top, bottom), chance, _ = sound_end(book, tuple([number * (shared // under) for number, under in worths]))
+    return ratio(top, bottom * shared), chance
 
 
 def opposites(worths):

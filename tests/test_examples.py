@@ -7,12 +7,16 @@ from softchances.books import Book, chance_for, is_sound, keeps, losing_sale, ro
 from softchances.bounds import (book_of, bounds_of, gathers, is_kept, is_tight_bounds, level_worth, numbers_of,
                                 order_chance, order_chances, scattering, tightened)
 from softchances.corners import corners, is_corner, mean_corner
-from softchances.errors import InvalidQuotes, NotSound
+from softchances.desks import Desk
+from softchances.errors import InvalidIndex, InvalidQuotes, NotSound
+from softchances.ever import greatest_ever, least_ever, shunning
 from softchances.losses import cheapest_mend, culprits, least_cost, losing_mix, loss
 from softchances.masses import (belief, beliefs, clash, masses_behind, masses_of, put_together, room, sure_worth,
                                 weakened)
 from softchances.news import chances_behind, greatest_behind, least_behind, least_by_question, widens
 from softchances.shapes import beginning_bounds, near_bounds, range_bounds, stirred_bounds
+from softchances.sources import (both, do_meet, greatest_but_one, is_left, least_between, least_blend, least_but_one,
+                                 widest_lot)
 from softchances.tellers import bound_to, greatest_told, is_told_nothing, least_told
 from softchances.tight import (are_alike, follows, is_needless, is_tight, is_within, least_quotes, needless,
                                parting_chance, tight_prices)
@@ -32,6 +36,7 @@ thirds = Book(3, (((1, 0, 0), (1, 3)), ((0, 1, 0), (1, 3)), ((0, 0, 1), (1, 3)))
 doors = ((0, 2), (0, 1))
 three, four = ((6, 0), (0, 6), (2, 2)), ((3, 0, 0), (0, 4, 4), (2, 2, 2))
 go, back = Book(2, (((0, 1), (1, 4)), ((1, 0), (1, 2)))), Book(2, (((1, 0), (1, 3)),))
+last = Book(3, (((0, 0, 1), (1, 3)),))
 
 
 class Examples(unittest.TestCase):
@@ -151,6 +156,30 @@ class Examples(unittest.TestCase):
              least_row((go, back), (0, 1), 2), worst_plan((go, back), (0, 1))],
             [((1, 4), (0, 1)), ((1, 2), (2, 3)), ((1, 8), (1, 12)), ((7, 16), (1, 1)), ((3, 4), (1, 1)),
              ((0, 1), (1, 4), (1, 8)), (((3, 4), (1, 4)), ((1, 1), (0, 1)))])
+
+    def test_ever(self):
+        self.assertEqual(
+            [least_ever((go, back), (1,)), least_ever((go, back), (0,)), least_ever((go, Book(2, ())), (0,)),
+             greatest_ever((go, Book(2, ())), (0,)), shunning((go, Book(2, ())), (0,)), least_ever((go, back), ())],
+            [((1, 1), (1, 1)), ((1, 1), (1, 1)), ((1, 1), (0, 1)), ((1, 1), (1, 1)), (1,), ((0, 1), (0, 1))])
+
+    def test_sources(self):
+        self.assertEqual(
+            [greatest_worth(both(rain, last), (1, 0, 0)), do_meet(rain, last), least_between(rain, last, (1, 0, 0)),
+             least_blend(rain, last, (1, 2), (1, 0, 0)), least_but_one(rain, (1, 0, 0)),
+             greatest_but_one(rain, (1, 0, 0)), is_left(rain, ((0, 1), (1, 2), (1, 2))),
+             is_left(rain, ((1, 1), (0, 1), (0, 1))), widest_lot(rain)],
+            [(5, 12), True, (0, 1), (1, 6), (0, 1), (3, 4), True, False, (0,)])
+
+    def test_desks(self):
+        desk = Desk(rain)
+        self.assertEqual(
+            [desk.quote((1, 1, 0), (1, 2)), desk.tighten(), str(desk.book), desk.news((0, 1)), desk.is_sound,
+             desk.undo(), desk.raise_to(0, (1, 2)), desk.greatest((0, 1, 0)), desk.drop(3), desk.changes],
+            [None, None, '3: 1,0,0>=1/3 0,1,0>=1/4 0,0,1>=1/4 1,1,0>=7/12', None, False, None, None, (1, 4), None, 4])
+        with self.assertRaises(InvalidIndex) as caught:
+            desk.raise_to(3, (0, 1))
+        self.assertEqual(caught.exception.given, 3)
 
 
 if __name__ == "__main__":

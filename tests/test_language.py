@@ -60,10 +60,21 @@ INTERFACE = {
     "walks": {"least_after": "walk payoff steps", "greatest_after": "walk payoff steps",
               "least_meet": "walk lot steps", "greatest_meet": "walk lot steps", "worst_plan": "walk payoff",
               "least_row": "walk payoff steps"},
+    "ever": {"least_ever": "walk lot", "greatest_ever": "walk lot", "shunning": "walk lot",
+             "reaching_plan": "walk lot", "shunning_plan": "walk lot"},
+    "sources": {"both": "book other", "do_meet": "book other", "least_between": "book other payoff",
+                "least_blend": "book other share payoff", "least_but_one": "book payoff",
+                "greatest_but_one": "book payoff", "is_left": "book chance", "widest_lot": "book"},
 }
-CLASSES = {("books", "Book"): {"__init__": "self outcomes quotes", "read": "text", "outcomes": "self",
-                               "quotes": "self", "with_quote": "self payoff price", "without": "self index",
-                               "__str__": "self", "__repr__": "self", "__eq__": "self other"}}
+CLASSES = {
+    ("books", "Book"): {"__init__": "self outcomes quotes", "read": "text", "outcomes": "self", "quotes": "self",
+                        "with_quote": "self payoff price", "without": "self index", "__str__": "self",
+                        "__repr__": "self", "__eq__": "self other"},
+    ("desks", "Desk"): {"__init__": "self book", "quote": "self payoff price", "drop": "self index",
+                        "raise_to": "self index price", "tighten": "self", "news": "self lot", "book": "self",
+                        "is_sound": "self", "changes": "self", "least": "self payoff", "greatest": "self payoff",
+                        "undo": "self", "trial": "self", "tried": "self action"},
+}
 
 
 def trees():
@@ -78,7 +89,9 @@ def functions_in(tree):
 
 def arguments_of(function):
     """The names of the parameters, with spaces between."""
-    return " ".join(argument.arg for argument in function.args.args)
+    parts = function.args
+    rest = ["*" + parts.vararg.arg] if parts.vararg else []
+    return " ".join([argument.arg for argument in parts.args] + rest + [argument.arg for argument in parts.kwonlyargs])
 
 
 class Files(unittest.TestCase):
@@ -150,6 +163,16 @@ class Syntax(unittest.TestCase):
                     self.assertNotIn(node.arg, bound | classes | set(vars(builtins)), (name, node.lineno))
                 if isinstance(node, ast.FunctionDef) and node.name.startswith("__"):
                     self.assertIn(node.name, DOUBLE, (name, node.lineno))
+
+    def test_leaving(self):
+        # What ends a `with` statement only sets attributes to attributes.
+        for name, tree in trees():
+            for function in functions_in(tree):
+                if function.name == "__exit__":
+                    for row in function.body:
+                        self.assertIsInstance(row, ast.Assign, (name, row.lineno))
+                        self.assertIsInstance(row.targets[0], ast.Attribute, (name, row.lineno))
+                        self.assertIsInstance(row.value, ast.Attribute, (name, row.lineno))
 
     def test_methods(self):
         own = {function.name for _, tree in trees() for function in functions_in(tree)}
