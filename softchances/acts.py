@@ -1,6 +1,6 @@
 """Which of several acts are safe, beaten, good or open, and which mixes of them beat."""
 
-from softchances.books import check_book, scaled_rows
+from softchances.books import check_book, sale_for, scaled_rows
 from softchances.checks import check_acts, check_index
 from softchances.ends import check_sound, opposite_payoff, sound_end
 from softchances.ratios import ZERO, divided, is_below, minus, opposite, over_rest, set_against, total
@@ -92,16 +92,21 @@ def good_end(book, acts, act):
 
 
 def act_sides(book, acts, act):
-    """The pair of a chance for the act and a mix that beats it; one of them is None."""
+    """The triple of a chance for the act, a mix that beats it, and a sale that shows this.
+
+    Either the first one is None, or the other two are. The mix, less the act
+    and less the row of the sale, is above 0 at each outcome.
+    """
     check_book(book)
     check_acts(acts, book.outcomes)
     check_index(act, len(acts))
     check_sound(book)
     _, chance, weights = good_end(book, acts, act)
     if chance is not None:
-        return chance, None
+        return chance, None, None
     # The weighted rows lose surely; as the book itself is sound, some of
     # the loss is that of the act behind the others.
-    mixed = weights[len(book.quotes):]
-    whole = total(mixed)
-    return None, tuple([divided(weight, whole) for weight in mixed])
+    many = len(book.quotes)
+    whole = total(weights[many:])
+    parts = tuple([divided(weight, whole) for weight in weights])
+    return None, parts[many:], sale_for(parts, book.quotes)

@@ -46,11 +46,7 @@ def gathers(bounds):
 def scattering(bounds):
     """A pair of lots that show that bounds do not gather, None if they do."""
     check_bounds(bounds)
-    for one in range(len(bounds)):
-        for two in range(one):
-            if is_below(plus(bounds[one | two], bounds[one & two]), plus(bounds[one], bounds[two])):
-                return lot_at(one), lot_at(two)
-    return None
+    return scattered(bounds)
 
 
 def tightened(bounds):
@@ -62,7 +58,7 @@ def tightened(bounds):
 def numbers_of(bounds):
     """The tuple of the numbers of all lots."""
     check_bounds(bounds)
-    return tuple([number_at(bounds, place) for place in range(len(bounds))])
+    return all_numbers(bounds)
 
 
 def level_worth(bounds, payoff):
@@ -116,6 +112,25 @@ def lot_quotes(bounds):
 def bound_rows(bounds):
     """The rows that a chance keeps just if it keeps the bounds."""
     return [scaled_row(payoff, bound) for payoff, bound in lot_quotes(bounds)]
+
+
+def scattered(bounds):
+    """A pair of lots that show that bounds do not gather, without a look at what is passed."""
+    for one in range(len(bounds)):
+        for two in range(one):
+            if do_scatter(bounds, one, two):
+                return lot_at(one), lot_at(two)
+    return None
+
+
+def do_scatter(bounds, one, two):
+    """Whether the lots at these two places show that bounds do not gather."""
+    return is_below(plus(bounds[one | two], bounds[one & two]), plus(bounds[one], bounds[two]))
+
+
+def all_numbers(bounds):
+    """The tuple of the numbers of all lots, without a look at what is passed."""
+    return tuple([number_at(bounds, place) for place in range(len(bounds))])
 
 
 def number_at(bounds, place):

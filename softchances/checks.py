@@ -1,14 +1,15 @@
 """Checks of what is passed: each one raises the error that the document tells."""
 
 from softchances.errors import InvalidActs, InvalidBounds, InvalidChance, InvalidFraction, InvalidIndex
-from softchances.errors import InvalidLot, InvalidMasses, InvalidNumber, InvalidOrder, InvalidPayoff
+from softchances.errors import InvalidLot, InvalidMasses, InvalidName, InvalidNumber, InvalidOrder, InvalidPayoff
 from softchances.errors import InvalidQuestion, InvalidQuotes, InvalidRanges, InvalidSale, InvalidSayings
-from softchances.kinds import is_fraction, is_full_lot, is_integer_from, is_lot, is_mass, is_outcome_number
-from softchances.kinds import is_payoff, is_price, is_quote, is_range, is_share
-from softchances.limits import MOST_ACTS, MOST_LISTED, MOST_OUTCOMES, MOST_QUOTES, MOST_STEPS
+from softchances.kinds import is_any_payoff, is_fraction, is_full_lot, is_integer_from, is_lot, is_mass, is_name
+from softchances.kinds import is_outcome_number, is_payoff, is_price, is_quote, is_range, is_share
+from softchances.limits import MOST_ACTS, MOST_LISTED, MOST_QUOTES, MOST_STEPS
 from softchances.ratios import ONE, ZERO, is_below, plus
 
 _MOST_SAYINGS = 8
+_MOST_CLAIMED_STEPS = 8
 
 
 def check_outcomes(given):
@@ -29,6 +30,12 @@ def check_steps(given):
         raise InvalidNumber(given)
 
 
+def check_few_steps(given):
+    """InvalidNumber if no claim can tell of a walk with so many steps."""
+    if not is_integer_from(given, 0, _MOST_CLAIMED_STEPS):
+        raise InvalidNumber(given)
+
+
 def check_quotes(given, outcomes):
     """InvalidQuotes with the first element that is no quote or one too many."""
     if not isinstance(given, tuple):
@@ -46,7 +53,7 @@ def check_payoff(given, outcomes):
 
 def check_any_payoff(given):
     """InvalidPayoff if it is no payoff for any number of outcomes."""
-    if not any([is_payoff(given, outcomes) for outcomes in range(2, MOST_OUTCOMES + 1)]):
+    if not is_any_payoff(given):
         raise InvalidPayoff(given)
 
 
@@ -194,3 +201,9 @@ def check_acts(given, outcomes):
     for at, payoff in enumerate(given):
         if at == MOST_ACTS or not is_payoff(payoff, outcomes):
             raise InvalidActs(at)
+
+
+def check_name(given):
+    """InvalidName if it is no name for a shelf."""
+    if not is_name(given):
+        raise InvalidName(given)

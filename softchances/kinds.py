@@ -5,6 +5,9 @@ from math import gcd
 from softchances.limits import MOST_BOTTOM, MOST_NUMBER, MOST_OUTCOMES
 from softchances.limits import MOST_PRICE_BOTTOM, MOST_PRICE_TOP, MOST_TOP
 
+_LETTERS = "abcdefghijklmnopqrstuvwxyz"
+_MOST_LETTERS = 8
+
 
 def is_integer(value):
     """Whether it is an integer, True and False being none."""
@@ -16,14 +19,22 @@ def is_integer_from(value, low, high):
     return is_integer(value) and low <= value <= high
 
 
-def is_ratio(value, most_top, most_bottom):
-    """Whether it is a fraction with a top and a bottom that are not too great."""
+def is_any_fraction(value):
+    """Whether it is a fraction, with a top and a bottom of any size."""
     if not isinstance(value, tuple) or len(value) != 2:
         return False
     top, bottom = value
-    if not is_integer_from(top, -most_top, most_top) or not is_integer_from(bottom, 1, most_bottom):
-        return False
-    return gcd(top, bottom) == 1
+    return is_integer(top) and is_integer(bottom) and bottom > 0 and gcd(top, bottom) == 1
+
+
+def is_any_from_zero(value):
+    """Whether it is a fraction from 0 on, with a top and a bottom of any size."""
+    return is_any_fraction(value) and value[0] >= 0
+
+
+def is_ratio(value, most_top, most_bottom):
+    """Whether it is a fraction with a top and a bottom that are not too great."""
+    return is_any_fraction(value) and -most_top <= value[0] <= most_top and value[1] <= most_bottom
 
 
 def is_fraction(value):
@@ -61,6 +72,11 @@ def is_payoff(value, outcomes):
     return all([is_integer_from(number, -MOST_NUMBER, MOST_NUMBER) for number in value])
 
 
+def is_any_payoff(value):
+    """Whether it is a payoff for any number of outcomes."""
+    return any([is_payoff(value, outcomes) for outcomes in range(2, MOST_OUTCOMES + 1)])
+
+
 def is_quote(value, outcomes):
     """Whether it is a quote for so many outcomes."""
     if not isinstance(value, tuple) or len(value) != 2:
@@ -87,7 +103,19 @@ def is_full_lot(value, outcomes):
 
 def is_mass(value, outcomes):
     """Whether it is a pair of a lot that is not empty and a share above 0."""
+    return is_any_mass(value, outcomes) and is_share(value[1])
+
+
+def is_any_mass(value, outcomes):
+    """Whether it is a pair of a lot that is not empty and a fraction above 0, of any size."""
     if not isinstance(value, tuple) or len(value) != 2:
         return False
     lot, number = value
-    return is_full_lot(lot, outcomes) and is_share(number) and number[0] > 0
+    return is_full_lot(lot, outcomes) and is_any_fraction(number) and number[0] > 0
+
+
+def is_name(value):
+    """Whether it is a name for a shelf."""
+    if not isinstance(value, str) or not 1 <= len(value) <= _MOST_LETTERS:
+        return False
+    return all([letter in _LETTERS for letter in value])

@@ -10,10 +10,7 @@ from softchances.ratios import ONE, ZERO, divided, minus, plus, times, total, we
 
 def masses_of(bounds):
     """The masses of which the bounds come, None if they do not."""
-    numbers = numbers_of(bounds)
-    if any([top < 0 for top, _ in numbers]):
-        return None
-    return as_masses({lot_at(place): number for place, number in enumerate(numbers)})
+    return masses_from(numbers_of(bounds))
 
 
 def beliefs(outcomes, masses):
@@ -79,6 +76,13 @@ def check_held(outcomes, masses):
     """What is raised for a number of outcomes and masses for so many."""
     check_few_outcomes(outcomes)
     check_masses(masses, outcomes)
+
+
+def masses_from(numbers):
+    """The masses that the numbers of all lots tell, None if one is below 0."""
+    if any([top < 0 for top, _ in numbers]):
+        return None
+    return as_masses({lot_at(place): number for place, number in enumerate(numbers)})
 
 
 def as_masses(numbers):

@@ -12,10 +12,7 @@ from softchances.worths import greatest_worth, least_worth
 
 def least_behind(book, lot, payoff):
     """The least worth of the payoff behind the news of the lot."""
-    check_book(book)
-    check_lot(lot, book.outcomes)
-    check_payoff(payoff, book.outcomes)
-    return end_behind(book, lot, lot, payoff)[0]
+    return checked_behind(book, lot, payoff)[0]
 
 
 def greatest_behind(book, lot, payoff):
@@ -51,6 +48,14 @@ def least_by_question(book, question, payoff):
     """The least number of the least worths behind the news of all lots that may come."""
     check_asked(book, question, payoff)
     return least_of([least_behind(book, lot, payoff) for lot in question if may_come(book, lot)])
+
+
+def checked_behind(book, lot, payoff):
+    """The end of the payoff behind the news of the lot, behind a look at what is passed."""
+    check_book(book)
+    check_lot(lot, book.outcomes)
+    check_payoff(payoff, book.outcomes)
+    return end_behind(book, lot, lot, payoff)
 
 
 def check_asked(book, question, payoff):

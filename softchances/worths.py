@@ -14,9 +14,7 @@ def least_worth(book, payoff):
 
 def greatest_worth(book, payoff):
     """The greatest worth of the payoff at all chances of the set."""
-    check_book(book)
-    check_payoff(payoff, book.outcomes)
-    return opposite(sound_end(book, opposite_payoff(payoff))[0])
+    return opposite(checked_top(book, payoff)[0])
 
 
 def least_chance(book, lot):
@@ -48,3 +46,10 @@ def checked_end(book, payoff):
     check_book(book)
     check_payoff(payoff, book.outcomes)
     return sound_end(book, payoff)
+
+
+def checked_top(book, payoff):
+    """The end of the payoff with the other sign, behind a look at what is passed."""
+    check_book(book)
+    check_payoff(payoff, book.outcomes)
+    return sound_end(book, opposite_payoff(payoff))

@@ -6,15 +6,20 @@ from softchances.acts import (beating_mix, best_mix, chance_for_act, good_acts, 
 from softchances.books import Book, chance_for, is_sound, keeps, losing_sale, row_of, worth
 from softchances.bounds import (book_of, bounds_of, gathers, is_kept, is_tight_bounds, level_worth, numbers_of,
                                 order_chance, order_chances, scattering, tightened)
+from softchances.certificates import (certify_act, certify_book, certify_bounds, certify_least, certify_masses,
+                                      certify_question, certify_walk)
+from softchances.checker import accepts
+from softchances.console import Console
 from softchances.corners import corners, is_corner, mean_corner
 from softchances.desks import Desk
-from softchances.errors import InvalidIndex, InvalidQuotes, NotSound
+from softchances.errors import Broken, InvalidIndex, InvalidLine, InvalidQuotes, NotSound
 from softchances.ever import greatest_ever, least_ever, shunning
 from softchances.losses import cheapest_mend, culprits, least_cost, losing_mix, loss
 from softchances.masses import (belief, beliefs, clash, masses_behind, masses_of, put_together, room, sure_worth,
                                 weakened)
 from softchances.news import chances_behind, greatest_behind, least_behind, least_by_question, widens
 from softchances.shapes import beginning_bounds, near_bounds, range_bounds, stirred_bounds
+from softchances.shelves import Shelf
 from softchances.sources import (both, do_meet, greatest_but_one, is_left, least_between, least_blend, least_but_one,
                                  widest_lot)
 from softchances.tellers import bound_to, greatest_told, is_told_nothing, least_told
@@ -180,6 +185,48 @@ class Examples(unittest.TestCase):
         with self.assertRaises(InvalidIndex) as caught:
             desk.raise_to(3, (0, 1))
         self.assertEqual(caught.exception.given, 3)
+
+    def test_shelves(self):
+        shelf = Shelf()
+        self.assertEqual(
+            [shelf.do_all(("put", "a", rain), ("put", "b", last), ("wish", ("least", "a", (1, 0, 0), (1, 3))),
+                          ("wish", ("meet", "a", "b")), ("wish", ("sound", "b"))), shelf.names, shelf.changes],
+            [5, ('a', 'b'), 5])
+        with self.assertRaises(Broken) as caught:
+            shelf["b"] = bad
+        self.assertEqual(caught.exception.index, 1)
+
+    def test_certificates(self):
+        self.assertEqual(
+            [certify_book(half)[0], certify_least(rain, (6, 0, -6))[0], certify_act(half, three, 2)[0],
+             certify_question(coins, ((0, 2), (1, 3)), (1, 1, 0, 0)), certify_bounds(low)[0][0],
+             certify_bounds(loose)[0][0], certify_masses(loose), certify_walk((go, back), (0, 1), 2, 0)],
+            [('sound', '2: 1,0>=1/3 0,1>=1/3'),
+             ('least', '3: 1,0,0>=1/3 0,1,0>=1/4 0,0,1>=1/4', (6, 0, -6), (-1, 2)),
+             ('poor', '2: 1,0>=1/3 0,1>=1/3', ((6, 0), (0, 6), (2, 2)), 2),
+             (('widens', '4: 1,1,0,0>=1/2 -1,-1,0,0>=-1/2 1,0,1,0>=1/2 -1,0,-1,0>=-1/2', ((0, 2), (1, 3)),
+               (1, 1, 0, 0)), ()), 'gathers', 'scatters', None,
+             (('walk', ('2: 0,1>=1/4 1,0>=1/2', '2: 1,0>=1/3'), (0, 1), 2, 0, (1, 8)), ())])
+        self.assertEqual(
+            [accepts(("loses", str(bad)), ((1, 1), (1, 1))), accepts(("loses", str(half)), ((1, 1), (1, 1))),
+             accepts(("sound", str(half)), ((1, 2), (1, 2))),
+             accepts(("least", str(half), (1, 0), (1, 3)), (((1, 3), (2, 3)), ((1, 1), (0, 1)))),
+             accepts(("least", str(half), (1, 0), (1, 3)), (((1, 2), (1, 2)), ((1, 1), (0, 1)))),
+             accepts(("free", str(half), (1, 0), (1, 2)), ((1, 3), (2, 3)))],
+            [True, False, True, True, False, True])
+
+    def test_console(self):
+        console = Console(half)
+        self.assertEqual(
+            [console.say("least 6,0"), console.say("most 1,-1"), console.say("chance 0"), console.say("corners"),
+             console.say("behind 0 5,7"), console.say("quote 1,0 1/2"), console.say("needless"),
+             console.say("raise 1 3/4"), console.say("sound"), console.say("loss"), console.say("least 1,0"),
+             console.say("undo"), console.say("news 2")],
+            ['2/1', '1/3', '1/3 2/3', '1/3,2/3 2/3,1/3', '5/1 5/1', 'ok', '0', 'ok', 'no', '1/8', 'NotSound', 'ok',
+             'InvalidLot'])
+        with self.assertRaises(InvalidLine) as caught:
+            console.say("least")
+        self.assertEqual(caught.exception.given, "least")
 
 
 if __name__ == "__main__":

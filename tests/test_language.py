@@ -25,8 +25,8 @@ DOUBLE = set("""__init__ __eq__ __repr__ __str__ __len__ __enter__ __exit__ __ca
     __getitem__ __setitem__""".split())
 # Of the nodes of Python's syntax, the rules bar these, or this package does without them.
 BARRED = (ast.Global, ast.AsyncFunctionDef, ast.AsyncFor, ast.AsyncWith, ast.Await, ast.Div, ast.GeneratorExp,
-          ast.Yield, ast.YieldFrom, ast.AnnAssign, ast.Import, ast.MatMult, ast.Try, ast.Match, ast.NamedExpr,
-          ast.SetComp, ast.Set)
+          ast.Yield, ast.YieldFrom, ast.AnnAssign, ast.Import, ast.MatMult, ast.Match, ast.NamedExpr, ast.SetComp,
+          ast.Set)
 WORDS = set("""type typing typing_extensions enum Enum IntEnum StrEnum Flag IntFlag Generic Protocol ABC ABCMeta
     namedtuple NamedTuple TypedDict TYPE_CHECKING abstractmethod register mro elements open input law version_info
     with_traceback add_note""".split())
@@ -65,6 +65,12 @@ INTERFACE = {
     "sources": {"both": "book other", "do_meet": "book other", "least_between": "book other payoff",
                 "least_blend": "book other share payoff", "least_but_one": "book payoff",
                 "greatest_but_one": "book payoff", "is_left": "book chance", "widest_lot": "book"},
+    "checker": {"accepts": "claim certificate"},
+    "certificates": {"certify_book": "book", "certify_least": "book payoff", "certify_most": "book payoff",
+                     "certify_quote": "book payoff price", "certify_act": "book acts act",
+                     "certify_question": "book question payoff", "certify_bounds": "bounds",
+                     "certify_masses": "bounds", "certify_behind": "book lot payoff",
+                     "certify_walk": "walk payoff steps index"},
 }
 CLASSES = {
     ("books", "Book"): {"__init__": "self outcomes quotes", "read": "text", "outcomes": "self", "quotes": "self",
@@ -74,6 +80,11 @@ CLASSES = {
                         "raise_to": "self index price", "tighten": "self", "news": "self lot", "book": "self",
                         "is_sound": "self", "changes": "self", "least": "self payoff", "greatest": "self payoff",
                         "undo": "self", "trial": "self", "tried": "self action"},
+    ("shelves", "Shelf"): {"__init__": "self", "__setitem__": "self name book", "__getitem__": "self name",
+                           "__contains__": "self value", "__len__": "self", "names": "self", "wishes": "self",
+                           "drop": "self name", "wish": "self wish", "lift": "self index", "undo": "self",
+                           "changes": "self", "do_all": "self *deeds watch", "trial": "self", "tried": "self action"},
+    ("console", "Console"): {"__init__": "self book", "say": "self line"},
 }
 
 
@@ -163,6 +174,48 @@ class Syntax(unittest.TestCase):
                     self.assertNotIn(node.arg, bound | classes | set(vars(builtins)), (name, node.lineno))
                 if isinstance(node, ast.FunctionDef) and node.name.startswith("__"):
                     self.assertIn(node.name, DOUBLE, (name, node.lineno))
+
+    def test_tries(self):
+        # Only own errors are caught, and what stands behind `finally` only sets an attribute, or does not.
+        own = {node.name for node in dict(trees())["errors"].body if isinstance(node, ast.ClassDef)}
+        for name, tree in trees():
+            for node in ast.walk(tree):
+                if isinstance(node, ast.Try):
+                    for handler in node.handlers:
+                        caught = handler.type.elts if isinstance(handler.type, ast.Tuple) else [handler.type]
+                        self.assertLessEqual({part.id for part in caught}, own, (name, handler.lineno))
+                        self.assertIsNone(handler.name, (name, handler.lineno))
+                    for row in node.finalbody:
+                        self.assertIsInstance(row, ast.If, (name, row.lineno))
+                        self.assertIsInstance(row.test.ops[0], ast.Is, (name, row.lineno))
+                        self.assertTrue(all(isinstance(inner, ast.Assign) for inner in row.body), (name, row.lineno))
+
+    def test_operators_change_nothing(self):
+        # Nor do properties and what is shown: they assign to local names alone, and call no method that modifies.
+        quiet = {"__eq__", "__str__", "__repr__", "__len__", "__contains__", "__getitem__"}
+        for name, tree in trees():
+            for function in functions_in(tree):
+                marks = {ast.unparse(mark) for mark in function.decorator_list}
+                if function.name not in quiet and "property" not in marks:
+                    continue
+                for node in ast.walk(function):
+                    self.assertNotIsInstance(node, (ast.AugAssign, ast.Delete), (name, function.name))
+                    if isinstance(node, (ast.Attribute, ast.Subscript)):
+                        self.assertIsInstance(node.ctx, ast.Load, (name, function.name))
+
+    def test_shown_at_once(self):
+        # These are one `return`: they assign nothing at all.
+        for name, tree in trees():
+            for function in functions_in(tree):
+                if function.name in ("__eq__", "__str__", "__repr__", "__len__"):
+                    self.assertEqual([type(row) for row in function.body], [ast.Return], (name, function.name))
+
+    def test_iteration_beside_items(self):
+        for name, tree in trees():
+            for node in ast.walk(tree):
+                if isinstance(node, ast.ClassDef):
+                    methods = {part.name for part in node.body if isinstance(part, ast.FunctionDef)}
+                    self.assertTrue("__getitem__" not in methods or "__iter__" in methods, (name, node.name))
 
     def test_leaving(self):
         # What ends a `with` statement only sets attributes to attributes.

@@ -112,7 +112,8 @@ class Between(Told, unittest.TestCase):
             self.check_both_ways(pair(min(least)), least_between, "book other payoff", one, two, payoff)
             for share in SHARES:
                 part = Fraction(*share)
-                mixes = [[(1 - part) * p + part * q for p, q in zip(corner, other)] for corner in ones for other in twos]
+                mixes = [[(1 - part) * p + part * q for p, q in zip(corner, other)]
+                         for corner in ones for other in twos]
                 blended = min(worth_by_hand(payoff, mix) for mix in mixes)
                 self.check_both_ways(pair(blended), least_blend, "book other share payoff", one, two, share, payoff)
                 self.assertGreaterEqual(blended, min(least))
@@ -271,8 +272,8 @@ class Errors(Told, unittest.TestCase):
         for one, two, error in ((HALF, RAIN, Unlike), (BAD, RAIN, Unlike), (BAD, BAD3, Unlike), (HALF, BAD, NotSound),
                                 (BAD, HALF, NotSound), (BAD, BAD, NotSound)):
             self.check_error_both_ways(error, {}, least_between, "book other payoff", one, two, (1, 2))
-            self.check_error_both_ways(InvalidPayoff, {"given": (1, 2, 3)}, least_between, "book other payoff", one, two,
-                                       (1, 2, 3))
+            self.check_error_both_ways(InvalidPayoff, {"given": (1, 2, 3)}, least_between, "book other payoff", one,
+                                       two, (1, 2, 3))
             for share in SHARES:
                 self.check_error_both_ways(error, {}, least_blend, "book other share payoff", one, two, share, (1, 2))
 
