@@ -38,10 +38,21 @@ def least_end(rows, payoff):
 
 def first_lines(rows, payoff):
     """The lines when all weights are 0, and the gap where the payoff is least."""
-    floor = payoff.index(min(payoff))
+    floor = least_place(payoff)
     goal = line_at(rows, payoff, floor)
     others = [line_at(rows, payoff, at) for at in range(len(payoff)) if at != floor]
     return [goal] + [[one - two for one, two in zip(line, goal)] for line in others]
+
+
+def least_place(payoff):
+    """The first outcome at which the payoff is least."""
+    # No `.index` here: the errors keep something of this name, and what a
+    # property runs calls nothing that is kept.
+    least = 0
+    for at, number in enumerate(payoff):
+        if number < payoff[least]:
+            least = at
+    return least
 
 
 def line_at(rows, payoff, outcome):
@@ -52,7 +63,7 @@ def line_at(rows, payoff, outcome):
 
 def first_held(many, payoff):
     """Which column each line holds at first; the first line holds none."""
-    floor = payoff.index(min(payoff))
+    floor = least_place(payoff)
     return [-1] + [many + at for at in range(len(payoff)) if at != floor]
 
 

@@ -235,6 +235,67 @@ class Syntax(unittest.TestCase):
                     self.assertIn(node.func.attr, METHODS | own, (name, node.lineno))
 
 
+class Quiet(unittest.TestCase):
+    """What properties, operators and what is shown run, through all functions that they call."""
+
+    def setUp(self):
+        self.classes = {node.name for _, tree in trees() for node in tree.body if isinstance(node, ast.ClassDef)}
+        self.made = {}
+        for _, tree in trees():
+            for function in functions_in(tree):
+                self.made.setdefault(function.name, []).append(function)
+        self.held = {node.attr for _, tree in trees() for node in ast.walk(tree)
+                     if isinstance(node, ast.Attribute) and isinstance(node.ctx, ast.Store)}
+
+    def begun(self):
+        """The methods that begin it."""
+        return [function for functions in self.made.values() for function in functions
+                if function.name in DOUBLE - {"__init__", "__enter__", "__exit__", "__call__", "__setitem__"}
+                or "property" in {ast.unparse(mark) for mark in function.decorator_list}]
+
+    def run_by(self, function):
+        """The names of the functions, and of the methods, that a function calls."""
+        calls = [node.func for node in ast.walk(function) if isinstance(node, ast.Call)]
+        return ({call.id for call in calls if isinstance(call, ast.Name)},
+                {call.attr for call in calls if isinstance(call, ast.Attribute)})
+
+    def reached(self):
+        """All functions and methods that run then."""
+        found, left = [], self.begun()
+        while left:
+            function = left.pop()
+            if function not in found:
+                found.append(function)
+                plain, methods = self.run_by(function)
+                left += [other for name in plain | methods for other in self.made.get(name, ())]
+        return found
+
+    def test_what_is_reached(self):
+        names = {function.name for function in self.reached()}
+        self.assertLessEqual({"is_sound", "end_by", "least_end", "first_lines", "first_held", "book_words"}, names)
+
+    def test_nothing_held_is_called(self):
+        # Not even by its name: a method of builtin values counts as held if any object keeps something so called.
+        for function in self.reached():
+            plain, methods = self.run_by(function)
+            bound = {node.arg for node in ast.walk(function) if isinstance(node, ast.arg)}
+            bound |= {node.id for node in ast.walk(function)
+                      if isinstance(node, ast.Name) and isinstance(node.ctx, ast.Store)}
+            self.assertEqual(plain & bound, set(), function.name)
+            self.assertLessEqual(plain, BUILTINS | set(self.made) | self.classes | LIBRARY["math"], function.name)
+            self.assertEqual(methods & self.held, set(), function.name)
+            self.assertLessEqual(methods, METHODS | set(self.made), function.name)
+
+    def test_nothing_is_changed(self):
+        loud = set("append clear extend insert pop remove reverse setdefault sort add discard update".split())
+        for function in self.reached():
+            self.assertEqual(self.run_by(function)[1] & loud, set(), function.name)
+            for node in ast.walk(function):
+                self.assertNotIsInstance(node, (ast.AugAssign, ast.Delete), function.name)
+                if isinstance(node, (ast.Attribute, ast.Subscript)):
+                    self.assertIsInstance(node.ctx, ast.Load, function.name)
+
+
 class Imports(unittest.TestCase):
     def imported(self, tree):
         """The pairs of a module and a name that a file imports."""
